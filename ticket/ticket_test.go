@@ -3,39 +3,20 @@ package ticket_test
 import (
 	"bytes"
 	"encoding/binary"
-	"math"
+	"math/bits"
 	"math/rand"
 	"slices"
 	"strings"
 	"testing"
 
 	"kerbsuite/api"
-	"kerbsuite/box"
+	"kerbsuite/sample"
 	"kerbsuite/ticket"
 )
 
-// The keys below are written as numbers, so that the tests do not lean on package key.
-const (
-	long    api.Key = 1 << 56 // less than all long-term keys
-	session api.Key = 2 << 56 // less than all session keys
-)
-
-var (
-	// sealers are keys with which a ticket can be sealed: those of both classes.
-	sealers = []api.Key{long + 1, long + 77, long + 0xffff_ffff, session + 1, session + 77, session + 0xffff_ffff}
-	// badKeys are numbers beside the valid keys.
-	badKeys = []api.Key{0, 1, 77, 0xffff_ffff, long - 1, long, long + 1<<32, long + 1<<32 + 1, session - 1, session, session + 1<<32, session + 1<<32 + 1, session + 1<<55 + 1, 3 << 56, 3<<56 + 1, 66<<56 + 1, 0xff<<56 + 1, math.MaxInt64, 1 << 63, 1<<63 + session + 1, math.MaxUint64}
-	// badSessions are keys that no ticket has: those that are not valid, and those of the other class.
-	badSessions = slices.Concat(badKeys, []api.Key{long + 1, long + 5, long + 0xffff_ffff})
-)
-
-// name returns a text of n letters that differ from those beside them.
-func name(n int) string {
-	b := make([]byte, n)
-	for i := range b {
-		b[i] = 'a' + byte(i%26)
-	}
-	return string(b)
+// badSessions returns keys that no ticket has: those that are not valid, and those of the other class.
+func badSessions() []api.Key {
+	return append(sample.NoKeys(), sample.LongTerm+1, sample.LongTerm+5, sample.LongTerm+0xffff_ffff)
 }
 
 // good returns a ticket without an error in which no two fields are alike.
@@ -44,7 +25,7 @@ func good() api.Ticket {
 		Little:   true,
 		Client:   api.Principal{Name: "alice", Instance: "admin", Realm: "ATHENA"},
 		Address:  0x01020304,
-		Session:  session + 0x05060708,
+		Session:  sample.Session + 0x05060708,
 		Life:     9,
 		Issued:   0x0a0b0c0d,
 		Service:  "rcmd",
@@ -61,13 +42,13 @@ func with(change func(t *api.Ticket)) api.Ticket {
 
 // greatest returns the longest ticket, with the greatest numbers.
 func greatest(little bool) api.Ticket {
-	n := name(39)
-	return api.Ticket{Little: little, Client: api.Principal{Name: n, Instance: n, Realm: n}, Address: 1<<32 - 1, Session: session + 0xffff_ffff, Life: 255, Issued: 1<<32 - 1, Service: n, Instance: n}
+	n := sample.Name(39)
+	return api.Ticket{Little: little, Client: api.Principal{Name: n, Instance: n, Realm: n}, Address: 1<<32 - 1, Session: sample.Session + 0xffff_ffff, Life: 255, Issued: 1<<32 - 1, Service: n, Instance: n}
 }
 
 // least returns the shortest ticket, with the least numbers.
 func least(little bool) api.Ticket {
-	return api.Ticket{Little: little, Client: api.Principal{Name: "a", Realm: "R"}, Session: session + 1, Service: "s"}
+	return api.Ticket{Little: little, Client: api.Principal{Name: "a", Realm: "R"}, Session: sample.Session + 1, Service: "s"}
 }
 
 // tickets are tickets without an error: the edges of all fields, in both byte orders, with every length of the padding.
@@ -88,18 +69,18 @@ func tickets() []api.Ticket {
 		add(func(t *api.Ticket) { t.Client.Name, t.Service = "!~", "~!" })
 		add(func(t *api.Ticket) { t.Service = "krbtgt" })
 		for n := 1; n <= 39; n++ {
-			add(func(t *api.Ticket) { t.Client.Name = name(n) })
-			add(func(t *api.Ticket) { t.Service, t.Instance = name(n), name(40-n) })
+			add(func(t *api.Ticket) { t.Client.Name = sample.Name(n) })
+			add(func(t *api.Ticket) { t.Service, t.Instance = sample.Name(n), sample.Name(40-n) })
 		}
 		for _, n := range []int{0, 1, 127, 128, 254, 255} {
 			add(func(t *api.Ticket) { t.Life = n })
 		}
-		for _, n := range []int{0, 1, 255, 256, 65535, 65536, 1<<31 - 1, 1 << 31, 1<<32 - 2, 1<<32 - 1} {
+		for _, n := range sample.Numbers() {
 			add(func(t *api.Ticket) { t.Address = n })
 			add(func(t *api.Ticket) { t.Issued = n })
 		}
 		for _, k := range []api.Key{1, 2, 255, 256, 1<<31 - 1, 1 << 31, 1<<32 - 2, 1<<32 - 1} {
-			add(func(t *api.Ticket) { t.Session = session + k })
+			add(func(t *api.Ticket) { t.Session = sample.Session + k })
 		}
 	}
 	return l
@@ -127,21 +108,6 @@ func join(t api.Ticket) []byte {
 	return append(b, t.Service+"\x00"+t.Instance+"\x00"...)
 }
 
-// pad appends zero bytes one by one.
-func pad(b []byte) []byte {
-	b = slices.Clone(b)
-	for len(b)%8 != 0 {
-		b = append(b, 0)
-	}
-	return b
-}
-
-// isText says whether s may be a part of a principal: from least to 39 bytes, none of them one of forbidden.
-func isText(s string, least int, forbidden string) bool {
-	bad := func(c byte) bool { return c <= ' ' || c >= 127 || strings.IndexByte(forbidden, c) >= 0 }
-	return least <= len(s) && len(s) <= 39 && !slices.ContainsFunc([]byte(s), bad)
-}
-
 // isSession says by its bytes whether k is a session key.
 func isSession(k api.Key) bool {
 	return k>>56 == 2 && k<<8>>40 == 0 && uint32(k) != 0
@@ -149,8 +115,7 @@ func isSession(k api.Key) bool {
 
 // checkByHand checks a ticket as P6.1 says.
 func checkByHand(t api.Ticket) api.Errno {
-	c := t.Client
-	if !isText(c.Name, 1, ".@") || !isText(c.Instance, 0, "@") || !isText(c.Realm, 1, "@") || !isText(t.Service, 1, ".@") || !isText(t.Instance, 0, "@") {
+	if !sample.IsPrincipal(t.Client) || !sample.IsName(t.Service) || !sample.IsInstance(t.Instance) {
 		return api.ErrName
 	}
 	if !isSession(t.Session) {
@@ -216,7 +181,7 @@ func decode(t *testing.T, b []byte) api.Errno {
 	if len(b) > api.MaxBody {
 		return wantError
 	}
-	if x, e := ticket.Open(seal(t, api.BoxTicket, long+77, b), long+77); x != want || e != wantError {
+	if x, e := ticket.Open(sample.Box(api.BoxTicket, sample.LongTerm+77, b), sample.LongTerm+77); x != want || e != wantError {
 		t.Errorf("Open of a box with %q = %+v, %d, want %+v, %d", b, x, e, want, wantError)
 	}
 	return wantError
@@ -230,16 +195,6 @@ func syntax(t *testing.T, b []byte) {
 	}
 }
 
-// seal makes a box.
-func seal(t *testing.T, kind int, k api.Key, body []byte) []byte {
-	t.Helper()
-	b, e := box.Make(kind, k, body)
-	if e != api.OK {
-		t.Fatalf("box.Make(%d, %#x, %q): %d", kind, uint64(k), body, e)
-	}
-	return b
-}
-
 // refused says that Check, Encode and Seal must return the error of x, whatever the key is.
 func refused(t *testing.T, x api.Ticket, want api.Errno) {
 	t.Helper()
@@ -249,7 +204,7 @@ func refused(t *testing.T, x api.Ticket, want api.Errno) {
 	if b, e := ticket.Encode(x); len(b) != 0 || e != want {
 		t.Errorf("Encode(%+v) = %q, %d, want %d", x, b, e, want)
 	}
-	for _, k := range []api.Key{long + 1, session + 1, 0, 77} {
+	for _, k := range []api.Key{sample.LongTerm + 1, sample.Session + 1, 0, 77} {
 		if b, e := ticket.Seal(x, k); len(b) != 0 || e != want {
 			t.Errorf("Seal(%+v, %#x) = %q, %d, want %d", x, uint64(k), b, e, want)
 		}
@@ -263,7 +218,7 @@ func accepted(t *testing.T, x api.Ticket) {
 		t.Errorf("Check(%+v) = %d", x, e)
 	}
 	b, e := ticket.Encode(x)
-	if want := pad(join(x)); !bytes.Equal(b, want) || e != api.OK {
+	if want := sample.Pad(join(x)); !bytes.Equal(b, want) || e != api.OK {
 		t.Errorf("Encode(%+v) = %q, %d, want %q", x, b, e, want)
 	}
 }
@@ -301,7 +256,7 @@ func TestCheckLengths(t *testing.T) {
 		for _, n := range []int{0, 1, 2, 38, 39, 40, 41, 79, 80, 255, 256, 257, 1000} {
 			x := good()
 			texts, kinds := nameFields(&x)
-			*texts[i] = name(n)
+			*texts[i] = sample.Name(n)
 			if n > 39 || n == 0 && kinds[i] != 'i' {
 				refused(t, x, api.ErrName)
 			} else {
@@ -315,18 +270,12 @@ func TestCheckLengths(t *testing.T) {
 
 // P6.1: only a valid key of the class api.Session is a session key.
 func TestCheckSession(t *testing.T) {
-	for _, k := range badSessions {
+	for _, k := range badSessions() {
 		refused(t, with(func(x *api.Ticket) { x.Session = k }), api.ErrNullKey)
 	}
 	for _, k := range []api.Key{1, 2, 77, 1 << 16, 1 << 31, 1<<32 - 2, 1<<32 - 1} {
-		accepted(t, with(func(x *api.Ticket) { x.Session = session + k }))
+		accepted(t, with(func(x *api.Ticket) { x.Session = sample.Session + k }))
 	}
-}
-
-// outside are numbers that are outside of a range from 0 to greatest, also those whose remainder is inside.
-func outside(greatest int) []int {
-	unit := greatest + 1
-	return []int{-1, -2, -greatest, -unit, -unit - 1, -unit + 1, -1 << 31, -1 << 32, -1<<32 + 1, math.MinInt, math.MinInt + 1, math.MinInt + unit, greatest + 1, greatest + 2, 2 * unit, 2*unit - 1, 2*unit + 1, 1 << 32, 1<<32 + 1, 1 << 40, 1<<62 + 1, math.MaxInt - unit, math.MaxInt - 1, math.MaxInt}
 }
 
 // P6.1: a number that is negative, 0, the greatest one, and one more.
@@ -340,10 +289,10 @@ func TestCheckNumbers(t *testing.T) {
 		{1<<32 - 1, func(x *api.Ticket, n int) { x.Issued = n }},
 	}
 	for _, f := range fields {
-		for _, n := range outside(f.greatest) {
+		for _, n := range sample.Outside(f.greatest) {
 			refused(t, with(func(x *api.Ticket) { f.set(x, n) }), api.ErrRange)
 		}
-		for _, n := range []int{0, 1, 2, 127, 128, f.greatest / 2, f.greatest - 1, f.greatest} {
+		for _, n := range sample.Inside(f.greatest) {
 			accepted(t, with(func(x *api.Ticket) { f.set(x, n) }))
 		}
 	}
@@ -357,12 +306,12 @@ func TestCheckOrder(t *testing.T) {
 		func(x *api.Ticket) { x.Client.Instance = "@" },
 		func(x *api.Ticket) { x.Client.Realm = "" },
 		func(x *api.Ticket) { x.Service = "a.b" },
-		func(x *api.Ticket) { x.Instance = name(40) },
+		func(x *api.Ticket) { x.Instance = sample.Name(40) },
 	}
 	keys := []func(x *api.Ticket){
 		func(x *api.Ticket) {},
 		func(x *api.Ticket) { x.Session = 0 },
-		func(x *api.Ticket) { x.Session = long + 5 },
+		func(x *api.Ticket) { x.Session = sample.LongTerm + 5 },
 	}
 	numbers := []func(x *api.Ticket){
 		func(x *api.Ticket) {},
@@ -404,7 +353,7 @@ func TestEncode(t *testing.T) {
 		{with(func(x *api.Ticket) { x.Little = false }), big + "\x00\x00\x00\x00\x00"},
 		{least(true), "\x01a\x00\x00R\x00" + "\x00\x00\x00\x00" + "\x02\x00\x00\x00\x00\x00\x00\x01" + "\x00" + "\x00\x00\x00\x00" + "s\x00\x00" + "\x00\x00\x00\x00\x00\x00"},
 		{
-			api.Ticket{Client: api.Principal{Name: "a", Instance: "b", Realm: "c"}, Address: 1<<32 - 1, Session: session + 0xffff_ffff, Life: 255, Issued: 1<<32 - 1, Service: "s"},
+			api.Ticket{Client: api.Principal{Name: "a", Instance: "b", Realm: "c"}, Address: 1<<32 - 1, Session: sample.Session + 0xffff_ffff, Life: 255, Issued: 1<<32 - 1, Service: "s"},
 			"\x00a\x00b\x00c\x00" + "\xff\xff\xff\xff" + "\x02\x00\x00\x00\xff\xff\xff\xff" + "\xff" + "\xff\xff\xff\xff" + "s\x00\x00" + "\x00\x00\x00\x00\x00",
 		},
 	}
@@ -420,7 +369,7 @@ func TestEncode(t *testing.T) {
 
 // P6.2: the example of chapter 6 has 27 bytes and is padded to 32.
 func TestEncodeExample(t *testing.T) {
-	x := api.Ticket{Client: api.Principal{Name: "a", Instance: "b", Realm: "c"}, Session: session + 1, Service: "s"}
+	x := api.Ticket{Client: api.Principal{Name: "a", Instance: "b", Realm: "c"}, Session: sample.Session + 1, Service: "s"}
 	if n := len(join(x)); n != 27 {
 		t.Errorf("the example has %d bytes without padding", n)
 	}
@@ -434,7 +383,7 @@ func TestEncodeDecode(t *testing.T) {
 	paddings := map[int]bool{}
 	for _, x := range tickets() {
 		accepted(t, x)
-		b := pad(join(x))
+		b := sample.Pad(join(x))
 		if y, e := ticket.Decode(b); y != x || e != api.OK {
 			t.Errorf("Decode(%q) = %+v, %d, want %+v", b, y, e, x)
 		}
@@ -453,7 +402,7 @@ func TestDecodeFirst(t *testing.T) {
 	for _, none := range [][]byte{nil, {}, make([]byte, 0, 40)} {
 		syntax(t, none)
 	}
-	rests := [][]byte{nil, {0}, make([]byte, 7), make([]byte, 31), []byte("not a ticket"), pad(join(good()))[1:], pad(join(greatest(false)))[1:], join(good())[1:], make([]byte, 2000)}
+	rests := [][]byte{nil, {0}, make([]byte, 7), make([]byte, 31), []byte("not a ticket"), sample.Pad(join(good()))[1:], sample.Pad(join(greatest(false)))[1:], join(good())[1:], make([]byte, 2000)}
 	for c := 2; c < 256; c++ {
 		for _, rest := range rests {
 			if e := decode(t, slices.Concat([]byte{byte(c)}, rest)); e != api.ErrByteOrder {
@@ -473,29 +422,24 @@ func TestDecodeFirst(t *testing.T) {
 // P6.2: the first byte says how the numbers are read.
 func TestDecodeByteOrder(t *testing.T) {
 	for _, x := range tickets() {
-		b := pad(join(x))
+		b := sample.Pad(join(x))
 		b[0] = 1 - b[0]
 		want := x
 		want.Little = !x.Little
-		want.Address = reversed(x.Address)
-		want.Issued = reversed(x.Issued)
+		want.Address = int(bits.ReverseBytes32(uint32(x.Address)))
+		want.Issued = int(bits.ReverseBytes32(uint32(x.Issued)))
 		if y, e := ticket.Decode(b); y != want || e != api.OK {
 			t.Errorf("Decode(%q) = %+v, %d, want %+v", b, y, e, want)
 		}
 	}
 }
 
-// reversed returns the number with the four bytes of n in reverse order.
-func reversed(n int) int {
-	return int(binary.LittleEndian.Uint32(binary.BigEndian.AppendUint32(nil, uint32(n))))
-}
-
 // samples are tickets with all lengths of padding, in both byte orders.
 func samples() []api.Ticket {
 	var l []api.Ticket
 	for n := 1; n <= 8; n++ {
-		l = append(l, with(func(x *api.Ticket) { x.Client.Name, x.Little = name(n), n%2 == 0 }))
-		l = append(l, with(func(x *api.Ticket) { x.Instance, x.Little = name(n-1), n%2 == 1 }))
+		l = append(l, with(func(x *api.Ticket) { x.Client.Name, x.Little = sample.Name(n), n%2 == 0 }))
+		l = append(l, with(func(x *api.Ticket) { x.Instance, x.Little = sample.Name(n-1), n%2 == 1 }))
 	}
 	return append(l, least(true), least(false), greatest(true), greatest(false))
 }
@@ -503,13 +447,10 @@ func samples() []api.Ticket {
 // P6.2: nothing that is shorter than an encoding is one, with or without the bytes behind the end of the slice.
 func TestDecodeCutShort(t *testing.T) {
 	for _, x := range samples() {
-		b := pad(join(x))
+		b := sample.Pad(join(x))
 		for n := range b {
 			syntax(t, b[:n])
 			syntax(t, b[:n:n])
-			if n > 0 {
-				syntax(t, pad(b[:n])[:n])
-			}
 		}
 	}
 }
@@ -517,10 +458,10 @@ func TestDecodeCutShort(t *testing.T) {
 // P6.2: an encoding that is cut short and padded again is none, unless it is only the padding that is missing.
 func TestDecodeCutAndPadded(t *testing.T) {
 	for _, x := range samples() {
-		b := pad(join(x))
-		for n := range b {
-			decode(t, pad(b[:n]))
-			decode(t, slices.Concat(b[:n], make([]byte, len(b)-n)))
+		b := sample.Pad(join(x))
+		for _, part := range sample.Cut(b) {
+			decode(t, sample.Pad(part))
+			decode(t, slices.Concat(part, make([]byte, len(b)-len(part))))
 		}
 	}
 }
@@ -528,33 +469,19 @@ func TestDecodeCutAndPadded(t *testing.T) {
 // P6.2: nothing follows an encoding, not even zero bytes.
 func TestDecodeTrailing(t *testing.T) {
 	for _, x := range samples() {
-		b := pad(join(x))
-		for n := 1; n <= 24; n++ {
-			syntax(t, slices.Concat(b, make([]byte, n)))
-			syntax(t, slices.Concat(b, bytes.Repeat([]byte{255}, n)))
+		b := sample.Pad(join(x))
+		for _, longer := range sample.Trailed(b) {
+			syntax(t, longer)
 		}
-		syntax(t, slices.Concat(b, b))
 		syntax(t, slices.Concat([]byte{0}, b))
-		syntax(t, slices.Concat(b, make([]byte, 8000)))
 	}
 }
 
 // P6.2: the padding has the right length, and all its bytes are zero.
 func TestDecodePadding(t *testing.T) {
 	for _, x := range samples() {
-		plain := join(x)
-		n := len(pad(plain)) - len(plain)
-		for wrong := range 24 {
-			if wrong != n {
-				syntax(t, slices.Concat(plain, make([]byte, wrong)))
-			}
-		}
-		for i := range n {
-			for _, c := range []byte{1, 2, 128, 255, 'a'} {
-				b := pad(plain)
-				b[len(plain)+i] = c
-				syntax(t, b)
-			}
+		for _, wrong := range sample.WronglyPadded(join(x)) {
+			syntax(t, wrong)
 		}
 	}
 }
@@ -562,17 +489,14 @@ func TestDecodePadding(t *testing.T) {
 // P6.2: an encoding in which one byte was changed, to every other value.
 func TestDecodeChanged(t *testing.T) {
 	for _, x := range samples() {
-		b := pad(join(x))
+		b := sample.Pad(join(x))
 		for i := range b {
-			old := b[i]
-			for c := range 256 {
-				b[i] = byte(c)
-				decode(t, b)
-				if y, e := ticket.Decode(b); e == api.OK && c != int(old) && y == x {
-					t.Errorf("Decode(%q) is the ticket of another encoding", b)
+			for _, other := range sample.Changed(b, i) {
+				decode(t, other)
+				if y, e := ticket.Decode(other); e == api.OK && y == x {
+					t.Errorf("Decode(%q) is the ticket of another encoding", other)
 				}
 			}
-			b[i] = old
 		}
 	}
 }
@@ -580,12 +504,8 @@ func TestDecodeChanged(t *testing.T) {
 // P6.2: an encoding without one of its bytes, and with one more, padded anew.
 func TestDecodeShifted(t *testing.T) {
 	for _, x := range samples() {
-		b := join(x)
-		for i := range b {
-			decode(t, pad(slices.Concat(b[:i], b[i+1:])))
-			for _, c := range []byte{0, 1, 2, 'a', '.', '@', 255} {
-				decode(t, pad(slices.Concat(b[:i], []byte{c}, b[i:])))
-			}
+		for _, other := range sample.Shifted(join(x)) {
+			decode(t, sample.Pad(other))
 		}
 	}
 }
@@ -593,31 +513,31 @@ func TestDecodeShifted(t *testing.T) {
 // P6.2: what would be the encoding of a ticket with an error is none.
 func TestDecodeErrors(t *testing.T) {
 	for i := range 5 {
-		for _, s := range []string{"", "x.y", "x@y", "@", " ", "x y", "\x7f", "\x80", "é", "\n", name(40), name(41), name(200)} {
+		for _, s := range sample.NoNames() {
 			x := good()
 			texts, _ := nameFields(&x)
 			*texts[i] = s
 			if checkByHand(x) != api.OK {
-				syntax(t, pad(join(x)))
+				syntax(t, sample.Pad(join(x)))
 			}
 		}
 	}
 	for _, little := range []bool{false, true} {
-		for _, k := range badSessions {
-			syntax(t, pad(join(with(func(x *api.Ticket) { x.Session, x.Little = k, little }))))
+		for _, k := range badSessions() {
+			syntax(t, sample.Pad(join(with(func(x *api.Ticket) { x.Session, x.Little = k, little }))))
 		}
 		// A key has the same bytes in both byte orders.
 		x := with(func(x *api.Ticket) { x.Session, x.Little = 0x0807060500000002, little })
-		syntax(t, pad(join(x)))
+		syntax(t, sample.Pad(join(x)))
 	}
 }
 
 // P6.3, P6.5: what was sealed is opened as it was, with the keys of both classes.
 func TestSealOpen(t *testing.T) {
 	for _, x := range tickets() {
-		for _, k := range sealers {
+		for _, k := range sample.Keys() {
 			b, e := ticket.Seal(x, k)
-			if want := seal(t, api.BoxTicket, k, pad(join(x))); !bytes.Equal(b, want) || e != api.OK {
+			if want := sample.Box(api.BoxTicket, k, sample.Pad(join(x))); !bytes.Equal(b, want) || e != api.OK {
 				t.Errorf("Seal(%+v, %#x) = %q, %d, want %q", x, uint64(k), b, e, want)
 			}
 			if y, e := ticket.Open(b, k); y != x || e != api.OK {
@@ -630,10 +550,10 @@ func TestSealOpen(t *testing.T) {
 // P6.3: a sealed ticket is written out.
 func TestSealBytes(t *testing.T) {
 	want := "\x42\x01\x01\x00\x00\x00\x00\x00\x00\x07\x00\x20" + "\x01a\x00\x00R\x00" + "\x00\x00\x00\x00" + "\x02\x00\x00\x00\x00\x00\x00\x01" + "\x00" + "\x00\x00\x00\x00" + "s\x00\x00" + "\x00\x00\x00\x00\x00\x00"
-	if b, e := ticket.Seal(least(true), long+7); string(b) != want || e != api.OK {
+	if b, e := ticket.Seal(least(true), sample.LongTerm+7); string(b) != want || e != api.OK {
 		t.Errorf("Seal = %q, %d, want %q", b, e, want)
 	}
-	if x, e := ticket.Open([]byte(want), long+7); x != least(true) || e != api.OK {
+	if x, e := ticket.Open([]byte(want), sample.LongTerm+7); x != least(true) || e != api.OK {
 		t.Errorf("Open = %+v, %d", x, e)
 	}
 }
@@ -641,7 +561,7 @@ func TestSealBytes(t *testing.T) {
 // P6.3: a key that is not valid; an error of the ticket comes before it (function refused tries this).
 func TestSealErrors(t *testing.T) {
 	for _, x := range []api.Ticket{good(), least(false), greatest(true)} {
-		for _, k := range badKeys {
+		for _, k := range sample.NoKeys() {
 			if b, e := ticket.Seal(x, k); len(b) != 0 || e != api.ErrNullKey {
 				t.Errorf("Seal(%+v, %#x) = %q, %d", x, uint64(k), b, e)
 			}
@@ -662,12 +582,13 @@ func closed(t *testing.T, b []byte, k api.Key) {
 // P6.3, P6.5: a box is not opened with another key, valid or not.
 func TestOpenKeys(t *testing.T) {
 	for _, x := range samples() {
-		for _, k := range sealers {
-			b := seal(t, api.BoxTicket, k, pad(join(x)))
-			for _, other := range slices.Concat(sealers, badKeys, []api.Key{k + 1, k - 1, k ^ 3<<56, k ^ 1<<31, k + 1<<32, x.Session}) {
-				if other != k {
-					closed(t, b, other)
-				}
+		for _, k := range sample.Keys() {
+			b := sample.Box(api.BoxTicket, k, sample.Pad(join(x)))
+			for _, other := range sample.OtherKeys(k) {
+				closed(t, b, other)
+			}
+			if x.Session != k {
+				closed(t, b, x.Session)
 			}
 		}
 	}
@@ -675,51 +596,21 @@ func TestOpenKeys(t *testing.T) {
 
 // P6.3: a box of another kind, a text that is not exactly a box, and a box whose key is not valid.
 func TestOpenBoxes(t *testing.T) {
-	k := long + 77
-	body := pad(join(good()))
-	for kind := api.BoxTicket + 1; kind <= api.BoxFiveReply; kind++ {
-		closed(t, seal(t, kind, k, body), k)
+	k := sample.LongTerm + 77
+	body := sample.Pad(join(good()))
+	for _, b := range sample.NoBoxes(api.BoxTicket, k, body) {
+		closed(t, b, k)
+		closed(t, b, 0)
 	}
-	b := seal(t, api.BoxTicket, k, body)
-	for n := range b {
-		closed(t, b[:n], k)
-	}
-	for _, extra := range [][]byte{{0}, {1}, make([]byte, 8), b} {
-		closed(t, slices.Concat(b, extra), k)
-		closed(t, slices.Concat(extra, b), k)
-	}
-	for _, none := range [][]byte{nil, {}, body, make([]byte, 12), make([]byte, 100)} {
-		for _, each := range []api.Key{k, 0, session + 1} {
-			closed(t, none, each)
-		}
-	}
-	for _, bad := range badKeys {
-		x := slices.Clone(b)
-		binary.BigEndian.PutUint64(x[2:], uint64(bad))
-		closed(t, x, bad)
-		closed(t, x, k)
-	}
-}
-
-// P6.3: a box with a byte of its head changed is not opened.
-func TestOpenHeads(t *testing.T) {
-	k := session + 0x01020304
-	b := seal(t, api.BoxTicket, k, pad(join(good())))
-	for i := range 12 {
-		old := b[i]
-		for c := range 256 {
-			if b[i] = byte(c); b[i] != old {
-				closed(t, b, k)
-			}
-		}
-		b[i] = old
+	for _, bad := range sample.NoKeys() {
+		closed(t, sample.Box(api.BoxTicket, bad, body), bad)
 	}
 }
 
 // P6.3: a body that is no ticket gives the error of Decode, but only if the box is opened.
 func TestOpenBodies(t *testing.T) {
-	k := long + 77
-	whole := pad(join(good()))
+	k := sample.LongTerm + 77
+	whole := sample.Pad(join(good()))
 	bodies := []struct {
 		body []byte
 		want api.Errno
@@ -738,17 +629,17 @@ func TestOpenBodies(t *testing.T) {
 		{make([]byte, api.MaxBody), api.ErrSyntax},
 		{bytes.Repeat([]byte{66}, api.MaxBody), api.ErrByteOrder},
 		{slices.Concat(whole, make([]byte, api.MaxBody-len(whole))), api.ErrSyntax},
-		{seal(t, api.BoxTicket, k, whole), api.ErrByteOrder},
+		{sample.Box(api.BoxTicket, k, whole), api.ErrByteOrder},
 	}
 	for _, x := range bodies {
-		b := seal(t, api.BoxTicket, k, x.body)
+		b := sample.Box(api.BoxTicket, k, x.body)
 		if y, e := ticket.Open(b, k); y != (api.Ticket{}) || e != x.want {
 			t.Errorf("Open of a box with %q = %+v, %d, want %d", x.body, y, e, x.want)
 		}
 		closed(t, b, k+1)
 		closed(t, b, 0)
 		closed(t, slices.Concat(b, []byte{0}), k)
-		closed(t, seal(t, api.BoxAuth, k, x.body), k)
+		closed(t, sample.Box(api.BoxAuth, k, x.body), k)
 	}
 }
 
@@ -766,7 +657,7 @@ func TestFor(t *testing.T) {
 		{least(true), "R", api.Principal{Name: "s", Realm: "R"}},
 		{api.Ticket{}, "", api.Principal{}},
 		{api.Ticket{}, "R", api.Principal{Realm: "R"}},
-		{api.Ticket{Service: "a.b", Instance: "@"}, name(80), api.Principal{Name: "a.b", Instance: "@", Realm: name(80)}},
+		{api.Ticket{Service: "a.b", Instance: "@"}, sample.Name(80), api.Principal{Name: "a.b", Instance: "@", Realm: sample.Name(80)}},
 		{api.Ticket{Client: api.Principal{Name: "c", Instance: "d", Realm: "E"}, Address: -1, Session: 1, Life: -1, Issued: -1}, "R", api.Principal{Realm: "R"}},
 	}
 	for _, x := range tests {
@@ -779,11 +670,11 @@ func TestFor(t *testing.T) {
 // P6.5: a sealed ticket has at most api.MaxTicket bytes.
 func TestSealedLength(t *testing.T) {
 	for _, x := range tickets() {
-		if b, e := ticket.Seal(x, long+1); len(b) > api.MaxTicket || len(b) == 0 || e != api.OK {
+		if b, e := ticket.Seal(x, sample.LongTerm+1); len(b) > api.MaxTicket || len(b) == 0 || e != api.OK {
 			t.Errorf("Seal(%+v) has %d bytes, %d", x, len(b), e)
 		}
 	}
-	if b, _ := ticket.Seal(greatest(true), long+1); len(b) != 12+224 {
+	if b, _ := ticket.Seal(greatest(true), sample.LongTerm+1); len(b) != 12+224 {
 		t.Errorf("the longest sealed ticket has %d bytes", len(b))
 	}
 }
@@ -800,46 +691,20 @@ func TestEncodingsDiffer(t *testing.T) {
 	}
 }
 
-// randomText returns a text that is often valid.
-func randomText(r *rand.Rand) string {
-	b := make([]byte, r.Intn(6))
-	if r.Intn(8) == 0 {
-		b = make([]byte, r.Intn(45))
-	}
-	for i := range b {
-		b[i] = byte(33 + r.Intn(94))
-		if r.Intn(40) == 0 {
-			b[i] = byte(r.Intn(256))
-		}
-	}
-	return string(b)
-}
-
-// randomNumber returns a number that is often at most greatest.
-func randomNumber(r *rand.Rand, greatest int) int {
-	switch r.Intn(12) {
-	case 0:
-		return int(r.Uint64())
-	case 1:
-		return []int{-1, 0, greatest, greatest + 1, math.MaxInt, math.MinInt}[r.Intn(6)]
-	}
-	return r.Intn(greatest + 1)
-}
-
 // randomTicket returns a ticket that has an error about half of the time.
 func randomTicket(r *rand.Rand) api.Ticket {
 	x := api.Ticket{
 		Little:   r.Intn(2) == 0,
-		Client:   api.Principal{Name: randomText(r), Instance: randomText(r), Realm: randomText(r)},
-		Address:  randomNumber(r, 1<<32-1),
-		Session:  session + 1 + api.Key(r.Intn(1<<32-1)),
-		Life:     randomNumber(r, 255),
-		Issued:   randomNumber(r, 1<<32-1),
-		Service:  randomText(r),
-		Instance: randomText(r),
+		Client:   api.Principal{Name: sample.Text(r.Intn), Instance: sample.Text(r.Intn), Realm: sample.Text(r.Intn)},
+		Address:  sample.Number(r.Intn, 1<<32-1),
+		Session:  sample.Session + 1 + api.Key(r.Intn(1<<32-1)),
+		Life:     sample.Number(r.Intn, 255),
+		Issued:   sample.Number(r.Intn, 1<<32-1),
+		Service:  sample.Text(r.Intn),
+		Instance: sample.Text(r.Intn),
 	}
 	if r.Intn(10) == 0 {
-		x.Session = badSessions[r.Intn(len(badSessions))]
+		x.Session = badSessions()[r.Intn(len(badSessions()))]
 	}
 	return x
 }
@@ -857,8 +722,8 @@ func TestRandomTickets(t *testing.T) {
 			continue
 		}
 		accepted(t, x)
-		b, e := ticket.Seal(x, long+77)
-		if y, e2 := ticket.Open(b, long+77); y != x || e != api.OK || e2 != api.OK {
+		b, e := ticket.Seal(x, sample.LongTerm+77)
+		if y, e2 := ticket.Open(b, sample.LongTerm+77); y != x || e != api.OK || e2 != api.OK {
 			t.Errorf("Open(Seal(%+v)) = %+v, %d, %d", x, y, e, e2)
 		}
 	}
@@ -885,7 +750,7 @@ func TestRandomTexts(t *testing.T) {
 			b[0] = byte(r.Intn(2))
 		}
 		decode(t, b)
-		for _, k := range []api.Key{0, long + 1, api.Key(r.Uint64())} {
+		for _, k := range []api.Key{0, sample.LongTerm + 1, api.Key(r.Uint64())} {
 			closed(t, b, k)
 		}
 	}
@@ -896,7 +761,7 @@ func TestRandomChanges(t *testing.T) {
 	r := rand.New(rand.NewSource(8))
 	l := samples()
 	for range 20000 {
-		b := pad(join(l[r.Intn(len(l))]))
+		b := sample.Pad(join(l[r.Intn(len(l))]))
 		for range 1 + r.Intn(3) {
 			b[r.Intn(len(b))] = byte(r.Intn(256))
 		}
@@ -904,19 +769,14 @@ func TestRandomChanges(t *testing.T) {
 	}
 }
 
-// framed returns a copy of b as a part of a longer text, which is its spare capacity, and the longer text.
-func framed(b []byte) ([]byte, []byte) {
-	store := slices.Concat([]byte("front"), b, []byte("\x01behind it\x00\x00\x00"))
-	return store[5:][:len(b)], store
-}
-
 // G2: Decode and Open change no argument, nor what is behind it, and do not read what is behind it.
 func TestArguments(t *testing.T) {
-	k := long + 77
+	k := sample.LongTerm + 77
 	for _, x := range samples() {
-		body := pad(join(x))
-		for _, b := range [][]byte{body, body[:len(body)-1], slices.Concat(body, []byte{1}), seal(t, api.BoxTicket, k, body), seal(t, api.BoxTicket, k, nil), nil, {2}} {
-			part, store := framed(b)
+		body := sample.Pad(join(x))
+		for _, b := range [][]byte{body, body[:len(body)-1], slices.Concat(body, []byte{1}), sample.Box(api.BoxTicket, k, body), sample.Box(api.BoxTicket, k, nil), nil, {2}} {
+			part := sample.Framed(b)
+			store := part[:cap(part)]
 			before := slices.Clone(store)
 			y, e := ticket.Decode(part)
 			z, e2 := ticket.Open(part, k)
@@ -938,7 +798,7 @@ func TestNewMemory(t *testing.T) {
 	for _, x := range samples() {
 		results := []func() []byte{
 			func() []byte { b, _ := ticket.Encode(x); return b },
-			func() []byte { b, _ := ticket.Seal(x, long+77); return b },
+			func() []byte { b, _ := ticket.Seal(x, sample.LongTerm+77); return b },
 		}
 		for _, result := range results {
 			a, b := result(), result()
@@ -948,10 +808,10 @@ func TestNewMemory(t *testing.T) {
 				t.Errorf("the results for %+v share memory", x)
 			}
 		}
-		b := pad(join(x))
-		sealed := seal(t, api.BoxTicket, long+77, b)
+		b := sample.Pad(join(x))
+		sealed := sample.Box(api.BoxTicket, sample.LongTerm+77, b)
 		y, _ := ticket.Decode(b)
-		z, _ := ticket.Open(sealed, long+77)
+		z, _ := ticket.Open(sealed, sample.LongTerm+77)
 		clear(b)
 		clear(sealed)
 		if y != x || z != x {
@@ -963,9 +823,10 @@ func TestNewMemory(t *testing.T) {
 // G2: the same arguments give the same results, in whatever order and however often the functions are called.
 func TestSameResults(t *testing.T) {
 	first := map[int][]byte{}
+	keys := sample.Keys()
 	for range 3 {
 		for i, x := range tickets() {
-			b, e := ticket.Seal(x, sealers[i%len(sealers)])
+			b, e := ticket.Seal(x, keys[i%len(keys)])
 			if e != api.OK || first[i] != nil && !bytes.Equal(b, first[i]) {
 				t.Errorf("Seal(%+v) = %q, %d, and before %q", x, b, e, first[i])
 			}
